@@ -1,0 +1,1 @@
+"""Tierstore: keys kept in tiers, that come up again from any stop."""
