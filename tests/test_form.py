@@ -35,6 +35,14 @@ register mro elements open input version_info with_traceback add_note format for
 compile delattr dir eval exec exit gc getattr globals hasattr help id importlib locals methodcaller os quit setattr
 super type vars sys
 """.split()
+KEYWORDS = {"sorted": ["key", "reverse"], "min": ["key", "default"], "max": ["key", "default"], "sum": ["start"],
+            "enumerate": ["start"], "zip": ["strict"]}
+WALKED = ["zip", "enumerate", "reversed", "range"]
+WALKED_METHODS = ["items", "keys", "values"]
+WALKERS = "list tuple dict sorted sum any all enumerate zip min max join".split()
+NOT_AS_VALUES = """
+items keys values pop update append clear extend insert remove reverse setdefault sort args encode format
+""".split()
 
 
 def python_files():
@@ -51,6 +59,30 @@ def names_bound(tree):
     bound += [node.name for node in ast.walk(tree) if isinstance(node, (ast.FunctionDef, ast.ClassDef))]
     names = [node for node in ast.walk(tree) if isinstance(node, ast.Name)]
     return bound + [node.id for node in names if isinstance(node.ctx, ast.Store)]
+
+
+def called(node):
+    """The name by which a call calls, None of what is no call."""
+    if not isinstance(node, ast.Call):
+        return None
+    return getattr(node.func, "attr", None) or getattr(node.func, "id", None)
+
+
+def is_walked_at_once(node):
+    name = called(node)
+    return name in WALKED_METHODS if isinstance(getattr(node, "func", None), ast.Attribute) else name in WALKED
+
+
+def places_of_a_walk(tree):
+    """What stands where it is walked on the spot."""
+    places = [node.iter for node in ast.walk(tree) if isinstance(node, (ast.For, ast.comprehension))]
+    calls = [node for node in ast.walk(tree) if called(node) in WALKERS]
+    return places + [argument for node in calls for argument in node.args]
+
+
+def drawn_from(name):
+    rows = [node for node in ast.walk(ast.parse(text_of(name))) if isinstance(node, ast.ImportFrom)]
+    return [node.module.partition(".")[2] + ".py" for node in rows]
 
 
 def is_docstring(node):
@@ -158,6 +190,58 @@ class Form(unittest.TestCase):
             if isinstance(node.func, ast.Attribute):
                 self.assertIn(node.func.attr, METHODS + own)
         self.each_node(check, ast.Call)
+
+    def test_keywords_at_pythons_own(self):
+        def check(node):
+            if called(node) in OWN_NAMES + METHODS:
+                for keyword in node.keywords:
+                    self.assertIn(keyword.arg, KEYWORDS.get(called(node), []))
+        self.each_node(check, ast.Call)
+
+    def test_what_is_walked_is_walked_at_once(self):
+        def check(tree):
+            places = places_of_a_walk(tree)
+            for node in ast.walk(tree):
+                self.assertTrue(not is_walked_at_once(node) or any(node is place for place in places), ast.dump(node))
+        self.each_node(check, ast.Module)
+
+    def test_a_comprehension_has_one_for_and_at_most_one_if(self):
+        def check(node):
+            self.assertEqual(len(node.generators), 1)
+            self.assertLessEqual(len(node.generators[0].ifs), 1)
+        self.each_node(check, ast.ListComp)
+
+    def test_no_local_is_called_like_an_import_or_a_class(self):
+        def check(tree):
+            rows = [node for node in ast.walk(tree) if isinstance(node, ast.ImportFrom)]
+            taken = [drawn.name for node in rows for drawn in node.names]
+            taken += [node.name for node in ast.walk(tree) if isinstance(node, ast.ClassDef)]
+            names = [node for node in ast.walk(tree) if isinstance(node, ast.Name)]
+            bound = [node.id for node in names if isinstance(node.ctx, ast.Store)]
+            bound += [node.arg for node in ast.walk(tree) if isinstance(node, ast.arg)]
+            self.assertEqual([name for name in bound if name in taken], [])
+        self.each_node(check, ast.Module)
+
+    def test_no_name_is_a_method_in_one_class_and_a_value_in_another(self):
+        nodes = [node for name in python_files() for node in ast.walk(ast.parse(text_of(name)))]
+        classes = [node for node in nodes if isinstance(node, ast.ClassDef)]
+        methods = [row.name for node in classes for row in node.body if isinstance(row, ast.FunctionDef)]
+        values = [node.attr for node in nodes if isinstance(node, ast.Attribute) and isinstance(node.ctx, ast.Store)]
+        self.assertEqual([name for name in values if name in methods + NOT_AS_VALUES], [])
+
+    def test_errors_are_taken_by_name(self):
+        def check(node):
+            self.assertIsNotNone(node.type)
+            self.assertNotIn(getattr(node.type, "id", ""), ["Exception", "TypeError"])
+        self.each_node(check, ast.ExceptHandler)
+
+    def test_no_two_files_draw_from_one_another(self):
+        left = {name: drawn_from(name) for name in python_files()}
+        while left:
+            free = [name for name in left if not any(drawn in left for drawn in left[name])]
+            self.assertNotEqual(free, [], left)
+            for name in free:
+                left.pop(name)
 
 
 if __name__ == "__main__":

@@ -23,11 +23,13 @@ def is_value(thing):
     return is_plain_text(thing, 0, LONGEST_VALUE)
 
 
-def is_stamp(thing):
+def is_whole_number(thing):
     # To Python True and False are whole numbers, to the store they are none.
-    if isinstance(thing, bool) or not isinstance(thing, int):
-        return False
-    return 1 <= thing <= GREATEST_STAMP
+    return isinstance(thing, int) and not isinstance(thing, bool)
+
+
+def is_stamp(thing):
+    return is_whole_number(thing) and 1 <= thing <= GREATEST_STAMP
 
 
 def is_entry(thing):
@@ -53,10 +55,21 @@ def is_deed(thing):
     return False
 
 
+def rank_of(entry):
+    # With the stamp below nought, the greater one of a key is the lesser rank.
+    return (entry[0], -entry[1])
+
+
 def comes_ahead(one, other):
-    if one[0] != other[0]:
-        return one[0] < other[0]
-    return one[1] > other[1]
+    return rank_of(one) < rank_of(other)
+
+
+def in_order(entries):
+    return sorted(entries, key=rank_of)
+
+
+def stretch(entries, low, high):
+    return [entry for entry in entries if low <= entry[0] and (high is None or entry[0] < high)]
 
 
 def newest(entries, key, stamp):

@@ -1,14 +1,13 @@
 """Sieves: which keys may be there, told by a few bits, and their texts."""
 
 from tierstore.errors import BadSieve
+from tierstore.figures import read_figures
 
 FACTORS = (31, 37, 41)
 FIRST_NUMBER = 7
 MODULUS = 1000003
-FIGURES = "0123456789"
 SIGNS = "abcdefghijklmnop"
-# Six figures bound the size by themselves: their greatest multiple of 8 is 999992.
-MOST_FIGURES = 6
+GREATEST_SIZE = 999992
 
 
 def probe(factor):
@@ -61,14 +60,10 @@ def sieve_text(sieve):
     return f"{size}:" + signs_of(sieve[1], size // 4)
 
 
-def read_size(figures):
-    if figures == "" or not all([figure in FIGURES for figure in figures]):
-        raise BadSieve("the size is not written in figures")
-    if figures[0] == "0":
-        raise BadSieve("the size is 0 or has a nought ahead")
-    if len(figures) > MOST_FIGURES:
-        raise BadSieve("the size is above 999992")
-    size = int(figures)
+def read_size(text):
+    size = read_figures(text, 8, GREATEST_SIZE)
+    if size is None:
+        raise BadSieve("the size is no number from 8 to 999992 in figures")
     if size % 8 != 0:
         raise BadSieve("the size is no multiple of 8")
     return size
