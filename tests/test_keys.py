@@ -3,7 +3,7 @@
 import itertools
 import unittest
 
-from tierstore.keys import comes_ahead, is_deed, is_entry, is_key, is_stamp, is_value, newest
+from tierstore.keys import are_deeds, comes_ahead, is_deed, is_entry, is_key, is_stamp, is_value, newest
 
 
 class LikesAll:
@@ -145,6 +145,24 @@ class Deeds(Asks):
         self.say(is_deed, False, [thing for thing in OTHER_KINDS if thing != ("put", "a", "b")])
         self.say(is_deed, False, [LikesAll(), "put", "drop", {"put": 1, "a": 2, "b": 3}])
         self.say(is_deed, False, TEXTS)
+
+
+class ListsOfDeeds(Asks):
+    DEED = ("put", "a", "b")
+
+    def test_one_to_twenty(self):
+        self.say(are_deeds, True, [[self.DEED] * many for many in range(1, 21)])
+        self.say(are_deeds, True, [[("drop", "a")], [("drop", "a"), self.DEED]])
+
+    def test_none_and_more(self):
+        self.say(are_deeds, False, [[], [self.DEED] * 21, [self.DEED] * 100])
+
+    def test_a_deed_that_is_none(self):
+        for thing in [None, ["put", "a", "b"], ("put", "a"), ("drop", ""), LikesAll()]:
+            self.say(are_deeds, False, [[thing], [thing, self.DEED], [self.DEED, thing], [self.DEED] * 19 + [thing]])
+
+    def test_things_of_other_kinds(self):
+        self.say(are_deeds, False, OTHER_KINDS + TEXTS + ((self.DEED,), {self.DEED: self.DEED}, {self.DEED}))
 
 
 class Order(unittest.TestCase):

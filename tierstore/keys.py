@@ -5,6 +5,7 @@ HIGHEST_SIGN = "~"
 LONGEST_KEY = 20
 LONGEST_VALUE = 40
 GREATEST_STAMP = 999999999
+MOST_DEEDS = 20
 
 
 def is_plain_text(thing, fewest, most):
@@ -53,6 +54,12 @@ def is_deed(thing):
     if len(thing) == 2:
         return is_word(thing[0], "drop") and is_key(thing[1])
     return False
+
+
+def are_deeds(thing):
+    if not isinstance(thing, list) or len(thing) < 1 or len(thing) > MOST_DEEDS:
+        return False
+    return all([is_deed(deed) for deed in thing])
 
 
 def rank_of(entry):

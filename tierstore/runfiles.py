@@ -1,8 +1,9 @@
 """The texts of runs: how they are written, and how they are read."""
 
 from tierstore.errors import BadRun, BadSieve
-from tierstore.figures import are_figures, read_figures
+from tierstore.figures import read_figures
 from tierstore.keys import GREATEST_STAMP, comes_ahead, is_entry
+from tierstore.rows import key_and_rest, read_key_and_rest, row_at, rows_of, text_of_rows
 from tierstore.runs import sieve_of_entries
 from tierstore.sieves import read_sieve, sieve_text
 
@@ -22,18 +23,11 @@ def check_of(text):
     return number
 
 
-def text_of_rows(rows):
-    return "".join([row + "\n" for row in rows])
-
-
 def entry_row(entry):
-    key = entry[0]
     stamp = entry[1]
-    length = str(len(key)).zfill(2)
     if entry[2] is None:
-        return f"{stamp} - {length}{key}"
-    value = entry[2]
-    return f"{stamp} + {length}{key}{value}"
+        return f"{stamp} - " + key_and_rest(entry[0], "")
+    return f"{stamp} + " + key_and_rest(entry[0], entry[2])
 
 
 def end_row(ahead):
@@ -46,11 +40,6 @@ def run_text(run):
     rows = [f"run {many}", sieve_text(run[0])] + [entry_row(entry) for entry in run[1]]
     ahead = text_of_rows(rows)
     return ahead + text_of_rows([end_row(ahead)])
-
-
-def row_at(rows, line):
-    # A row that is not there may pass for an empty one, as that is wrong in each place.
-    return rows[line - 1] if line <= len(rows) else ""
 
 
 def read_head(row):
@@ -67,16 +56,6 @@ def read_sieve_row(row):
         return read_sieve(row)
     except BadSieve:
         raise BadRun(SIEVE_LINE) from None
-
-
-def read_key_and_rest(text):
-    if not are_figures(text[:2]):
-        return None
-    behind = 2 + int(text[:2])
-    # A slice beyond the end would pass a length of one figure, and a key that is shorter than told.
-    if len(text) < behind:
-        return None
-    return (text[2:behind], text[behind:])
 
 
 def read_entry(row):
@@ -116,8 +95,7 @@ def check_end(text, rows, line):
 
 
 def read_run(text):
-    # What stands behind the last line end has none itself, and is no row.
-    rows = text.split("\n")[:-1]
+    rows = rows_of(text)
     many = read_head(row_at(rows, HEAD_LINE))
     sieve = read_sieve_row(row_at(rows, SIEVE_LINE))
     entries = read_entries(rows, many)
