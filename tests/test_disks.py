@@ -4,7 +4,7 @@ import itertools
 import random
 import unittest
 
-from tierstore.disks import Disk
+from tierstore.disks import Disk, refuse_a_stopped_one
 from tierstore.errors import NoFile, Stopped
 
 FILES = {"b": "two", "a": "one", "": "of no name", "c": ""}
@@ -395,6 +395,12 @@ class Stops(unittest.TestCase):
         disk.stop_in(5, 5)
         self.refused(disk, 1, disk.lengthen, "a", "xyz")
         self.assertEqual(disk.files(), {"a": "one"})
+
+    def test_one_that_has_stopped_is_refused_without_a_step(self):
+        for disk, many in self.each_disk_at_its_stop({"a": "one"}, 0):
+            self.assertIsNone(refuse_a_stopped_one(disk))
+            self.refused(disk, many, disk.write, "a", "x")
+            self.refused(disk, many, refuse_a_stopped_one, disk)
 
 
 class Plain:

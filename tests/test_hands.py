@@ -3,7 +3,7 @@
 import itertools
 import unittest
 
-from tierstore.hands import Hand
+from tierstore.hands import Hand, put_deeds
 
 ENTRIES = [
     (" ", 3, "blank"), ("a", 9, "nine"), ("a", 5, None), ("a", 2, ""), ("a ", 4, "four"), ("ab", 7, None),
@@ -193,6 +193,20 @@ class Own(unittest.TestCase):
         other.clear()
         self.assertEqual((one.many(), other.many()), (1, 0))
         self.assertEqual((one.find("a", 5), other.find("a", 5)), (("a", 1, "x"), None))
+
+
+class PutDeeds(unittest.TestCase):
+    def test_one_by_one_under_one_stamp(self):
+        hand = hand_of([("a", 3, "old")])
+        put_deeds(hand, 5, [("put", "a", "x"), ("drop", "b"), ("put", "put", ""), ("drop", "drop")])
+        self.assertEqual(hand.rows(), [
+            ("a", 5, "x"), ("a", 3, "old"), ("b", 5, None), ("drop", 5, None), ("put", 5, "")])
+
+    def test_of_two_with_one_key_the_later_one_counts(self):
+        for deeds, value in [([("put", "a", "x"), ("drop", "a")], None), ([("drop", "a"), ("put", "a", "x")], "x")]:
+            hand = Hand()
+            put_deeds(hand, 5, deeds)
+            self.assertEqual(hand.rows(), [("a", 5, value)])
 
 
 if __name__ == "__main__":

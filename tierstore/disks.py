@@ -3,6 +3,11 @@
 from tierstore.errors import NoFile, Stopped
 
 
+def refuse_a_stopped_one(disk):
+    if disk.has_stopped():
+        raise Stopped(disk.steps())
+
+
 class Disk:
     def __init__(self, files=None, stop=None, torn=0):
         self.texts = {} if files is None else dict(files)

@@ -3,6 +3,12 @@
 from tierstore.keys import in_order, newest, stretch
 
 
+def put_deeds(hand, stamp, deeds):
+    for deed in deeds:
+        value = deed[2] if deed[0] == "put" else None
+        hand.put(deed[1], stamp, value)
+
+
 class Hand:
     def __init__(self):
         # By keys, then by stamps, so that a key is found without a walk through all.

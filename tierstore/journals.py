@@ -5,6 +5,7 @@ from tierstore.figures import padded, read_padded
 from tierstore.keys import GREATEST_STAMP, MOST_DEEDS, are_deeds, is_stamp
 from tierstore.rows import key_and_rest, read_key_and_rest, rows_of, text_of_rows
 
+JOURNAL_NAME = "journal"
 STAMP_FIGURES = 9
 MANY_FIGURES = 2
 LENGTH_FIGURES = 5

@@ -5,6 +5,8 @@ from tierstore.figures import padded, read_figures
 from tierstore.keys import GREATEST_STAMP
 from tierstore.rows import row_at, rows_of, text_of_rows
 
+TIERS_NAME = "tiers"
+NO_TIERS = (1, 0, ((), (), ()))
 GREATEST_NUMBER = 9999999
 NAME_FIGURES = 7
 FRESH_LINE = 1
